@@ -7,7 +7,7 @@ class Tree:
     """Blocks of which one is the root, and each other one has a parent; it never changes."""
 
     def __init__(self, parents):
-        _check_names(parents)
+        check_names(parents)
         _check_parents(parents)
         self._parents = dict(parents)
         self._children = _children_in(self._parents)
@@ -43,7 +43,7 @@ class Tree:
 
     def parent(self, block):
         """The parent of a block, an empty string for the root."""
-        self._check_block(block)
+        self.check_block(block)
         return self._parents[block]
 
     def height(self, block):
@@ -52,12 +52,12 @@ class Tree:
 
     def children(self, block):
         """The ascending list of the children of a block."""
-        self._check_block(block)
+        self.check_block(block)
         return list(self._children[block])
 
     def branch(self, block):
         """The list of the blocks from the root to a block."""
-        self._check_block(block)
+        self.check_block(block)
         downwards = []
         here = block
         while here != "":
@@ -67,7 +67,7 @@ class Tree:
 
     def leads(self, one, other):
         """Whether a block leads to another one."""
-        self._check_block(one)
+        self.check_block(one)
         return one != other and one in self.branch(other)
 
     def against(self, one, other):
@@ -86,19 +86,20 @@ class Tree:
             raise BadName(block)
         if block in self._parents:
             raise InUse(block)
-        self._check_block(parent)
+        self.check_block(parent)
         return Tree({**self._parents, block: parent})
 
     def below(self, block):
         """The ascending list of the blocks to which a block leads."""
-        self._check_block(block)
+        self.check_block(block)
         return [other for other in self.blocks() if self.leads(block, other)]
 
     def tops(self):
         """The ascending list of the blocks without children."""
         return [block for block in self.blocks() if not self._children[block]]
 
-    def _check_block(self, given):
+    def check_block(self, given):
+        """Raises NoBlock for any value that is no block."""
         # What is no string may not be fit for a key, and must not be looked up.
         if not isinstance(given, str) or given not in self._parents:
             raise NoBlock(given)
@@ -109,16 +110,23 @@ def is_name(given):
     return isinstance(given, str) and len(given) <= 8 and given.isascii() and given.isalpha() and given.islower()
 
 
+def check_names(given):
+    """Raises BadName for the first key of a dict that is not a name."""
+    for key in given:
+        if not is_name(key):
+            raise BadName(key)
+
+
 def ascending(names):
     """The ascending list of some names."""
     # As Ratios have an order of their own, the language sorts only what plainly is a string.
     return sorted([str(name) for name in names])
 
 
-def _check_names(parents):
-    for block in parents:
-        if not is_name(block):
-            raise BadName(block)
+def ascending_rows(rows):
+    """The ascending list of some tuples of names."""
+    # A space comes before all letters, so the lines have the order that their tuples have.
+    return [tuple(line.split(" ")) for line in ascending([" ".join(row) for row in rows])]
 
 
 def _check_parents(parents):

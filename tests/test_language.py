@@ -75,6 +75,15 @@ class Code(unittest.TestCase):
             else:
                 self.assertLessEqual(names, LIBRARY.get(node.module, set()), path)
 
+    def test_no_variable_has_the_name_of_a_class_or_an_import(self):
+        for path in FILES:
+            nodes = list(ast.walk(ast.parse(path.read_text(encoding="ascii"))))
+            taken = {alias.name for node in nodes if isinstance(node, ast.ImportFrom) for alias in node.names}
+            taken |= {node.name for node in nodes if isinstance(node, ast.ClassDef)}
+            names = {node.arg for node in nodes if isinstance(node, ast.arg)}
+            names |= {node.id for node in nodes if isinstance(node, ast.Name) and isinstance(node.ctx, ast.Store)}
+            self.assertFalse(taken & names, path)
+
     def test_builtins(self):
         for path, node in self.nodes(ast.Name):
             if hasattr(builtins, node.id):

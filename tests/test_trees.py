@@ -5,13 +5,10 @@ from itertools import permutations, product
 from finalblocks import trees
 from finalblocks.errors import BadLine, BadName, BadParent, InUse, NoBlock
 from finalblocks.trees import Tree
-from tests.values import ANY_VALUES, FIT_FOR_KEYS, same
+from tests.checks import Checks
+from tests.values import ANY_VALUES, FIT_FOR_KEYS, NO_NAMES, same
 
 NAMES = ["a", "z", "root", "abcdefgh", "zzzzzzzz", "aa"]
-NO_NAMES = [
-    "", "A", "aB", "abcdefghi", "a" * 100, "a1", "1", "a b", " a", "a ", "a\n", "\n", "a_b", "a-b", "a.b", "None",
-    "\u00e9", "a\u00df", "\u0430", "\u00aa",
-]
 MANY = {"root": "", "a": "root", "b": "a", "c": "a", "d": "c"}
 LONG = {"n" + "abcdefghijklmnopqrstuvw"[at]: "n" + "abcdefghijklmnopqrstuvw"[at - 1] if at else "" for at in range(23)}
 WIDE = {"m": "", **{letter: "m" for letter in "qzkabyx"}, "c": "q", "d": "q", "e": "z", "f": "c", "g": "e", "h": "f"}
@@ -55,14 +52,6 @@ def small_trees(names):
         told = dict(zip(names, parents))
         if expected_fault(told) is None:
             yield told
-
-
-class Checks(unittest.TestCase):
-    def assert_given(self, error, value, function, *arguments):
-        """A call raises an error that names just this value."""
-        with self.assertRaises(error) as caught:
-            function(*arguments)
-        self.assertTrue(same(caught.exception.given, value), (caught.exception.given, value))
 
 
 class Examples(Checks):

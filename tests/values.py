@@ -11,6 +11,10 @@ UNFIT_FOR_KEYS = [
     ("a", Ratio(1, 3)),
 ]
 ANY_VALUES = FIT_FOR_KEYS + UNFIT_FOR_KEYS
+NO_NAMES = [
+    "", "A", "aB", "abcdefghi", "a" * 100, "a1", "1", "a b", " a", "a ", "a\n", "\n", "a_b", "a-b", "a.b", "None",
+    "\u00e9", "a\u00df", "\u0430", "\u00aa",
+]
 
 
 def same(one, other):
