@@ -56,11 +56,15 @@ class Ballot:
 
     def with_vote(self, voter, source, target):
         """The ballot with one more vote."""
-        return Ballot(self._tree, self._weights, self._share, [*self._votes, (voter, source, target)])
+        return self.remade(self._tree, [*self._votes, (voter, source, target)])
 
     def with_block(self, block, parent):
         """The ballot with one more block."""
-        return Ballot(self._tree.with_block(block, parent), self._weights, self._share, self._votes)
+        return self.remade(self._tree.with_block(block, parent), self._votes)
+
+    def remade(self, tree, votes):
+        """The ballot of the same voters with another tree and other votes."""
+        return Ballot(tree, self._weights, self._share, votes)
 
     def __eq__(self, other):
         return (isinstance(other, Ballot) and self._tree == other._tree and self._weights == other._weights
@@ -95,8 +99,11 @@ def broken(tree, one, other):
     # Taken as votes of one voter they are the same vote if they have the same link.
     if one[1:] == other[1:]:
         return "none"
-    left = _heights(tree, one)
-    right = _heights(tree, other)
+    return broken_at(vote_heights(tree, one), vote_heights(tree, other))
+
+
+def broken_at(left, right):
+    """Which rule two different votes of one voter break whose sources and targets have these heights."""
     if left[1] == right[1]:
         return "twice"
     if _goes_around(left, right) or _goes_around(right, left):
@@ -104,13 +111,20 @@ def broken(tree, one, other):
     return "none"
 
 
+def vote_heights(tree, vote):
+    """The heights of the source and of the target of a vote."""
+    return (tree.height(vote[1]), tree.height(vote[2]))
+
+
 def evidence(ballot, voter):
     """Two votes of a voter that break a rule, the lesser one first; None if the voter is not guilty."""
     votes = ballot.votes_of(voter)
-    for at, one in enumerate(votes):
-        for other in votes[at + 1:]:
-            if broken(ballot.tree(), one, other) != "none":
-                return (one, other)
+    # Each height is looked up once, not once for each pair of votes.
+    heights = [vote_heights(ballot.tree(), vote) for vote in votes]
+    for at, left in enumerate(heights):
+        for later, right in enumerate(heights[at + 1:], start=at + 1):
+            if broken_at(left, right) != "none":
+                return (votes[at], votes[later])
     return None
 
 
@@ -124,6 +138,14 @@ def can_vote(ballot, voter, source, target):
     vote = (voter, source, target)
     _check_votes(ballot.tree(), ballot.voters(), [vote])
     return all([broken(ballot.tree(), vote, other) == "none" for other in ballot.votes_of(voter)])
+
+
+def lots(voters):
+    """All lots of some voters, each a list in their order; a part of a lot comes ahead of it."""
+    found = [[]]
+    for voter in voters:
+        found = found + [[*lot, voter] for lot in found]
+    return found
 
 
 def _check_votes(tree, voters, votes):
@@ -140,11 +162,6 @@ def _has_link(tree, given):
         return tree.leads(given[1], given[2])
     except NoBlock:
         return False
-
-
-def _heights(tree, vote):
-    """The heights of the source and of the target of a vote."""
-    return (tree.height(vote[1]), tree.height(vote[2]))
 
 
 def _goes_around(outer, inner):

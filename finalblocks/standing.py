@@ -4,6 +4,11 @@ from finalblocks.ratios import Ratio
 from finalblocks.trees import ascending, ascending_rows
 
 
+def least_support(ballot):
+    """The least weight that supports a link."""
+    return ballot.share() * ballot.whole()
+
+
 def support(ballot, source, target):
     """The weight of the voters who have voted for a link."""
     ballot.tree().check_block(source)
@@ -13,12 +18,12 @@ def support(ballot, source, target):
 
 def is_supported(ballot, source, target):
     """Whether the voters for a link have at least the share of all weight."""
-    return _least(ballot) <= support(ballot, source, target)
+    return least_support(ballot) <= support(ballot, source, target)
 
 
 def links(ballot):
     """The ascending list of all supported links."""
-    least = _least(ballot)
+    least = least_support(ballot)
     # The votes are gone through once, not once for each link.
     weights = {}
     for voter, source, target in ballot.votes():
@@ -75,11 +80,6 @@ def is_final_paper(ballot, block, value):
     if not isinstance(value, tuple) or len(value) != 2:
         return False
     return is_paper(ballot, block, value[0]) and value[1] in _places_of_child(ballot, block, links(ballot))
-
-
-def _least(ballot):
-    """The least weight that supports a link."""
-    return ballot.share() * ballot.whole()
 
 
 def _papers(ballot):
