@@ -59,14 +59,14 @@ class Ground:
                 lot = lot | (1 << at)
         return lot
 
-    def voters(self, lot):
-        """The ascending list of the voters of a lot."""
+    def names(self, lot):
+        """The ascending list of the names of the voters of a lot."""
         return [voter for at, voter in enumerate(self._ballot.voters()) if (lot >> at) & 1 == 1]
 
     def is_enough(self, lot):
         """Whether the voters of a lot can support a link."""
         if lot not in self._enough:
-            self._enough[lot] = least_support(self._ballot) <= self._ballot.weight_of(self.voters(lot))
+            self._enough[lot] = least_support(self._ballot) <= self._ballot.weight_of(self.names(lot))
         return self._enough[lot]
 
     def voted(self, low, high):
@@ -163,7 +163,7 @@ class Steps:
     def _new_voters(self, low, high):
         """The voters who vote to make a step, without those who have voted for it already."""
         ground = self._ground
-        return ground.voters((self._liars | ground.free(low, high) & self._keepers) & ~ground.voted(low, high))
+        return ground.names((self._liars | ground.free(low, high) & self._keepers) & ~ground.voted(low, high))
 
     def _reached(self):
         """The dict from each place that is reached from the root to the place before it, the nearest places first."""

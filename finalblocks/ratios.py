@@ -110,6 +110,11 @@ def is_number(given):
     return isinstance(given, Ratio) or is_whole(given)
 
 
+def is_amount(given):
+    """Whether a value is a number that is at least 0."""
+    return is_number(given) and Ratio(0) <= given
+
+
 def as_ratio(given):
     """The Ratio that is equal to a number."""
     if isinstance(given, Ratio):

@@ -2,6 +2,7 @@
 
 import ast
 import builtins
+import re
 import unittest
 from pathlib import Path
 
@@ -27,6 +28,13 @@ DECORATORS = {"property", "classmethod", "staticmethod"}
 DOUBLE = set(
     "init eq repr str len enter exit call iter lt le gt ge ne add sub mul floordiv mod pow and or xor lshift rshift"
     " radd rsub rmul neg pos invert abs bool contains getitem setitem".split())
+BARRED = set(
+    "register mro elements open input law type typing enum Enum Flag Generic Protocol ABC namedtuple NamedTuple"
+    " TypedDict compile eval exec exit globals help id locals os quit super vars".split())
+BARRED_PARTS = ["_wall", "dataclass", "overload", "contextmanager", "metaclass"]
+BARRED_STARTS = (
+    "_pe_", "_dcw_", "_enum_", "_cm_", "_twin_re_", "_lay_", "_law_", "_stub_", "_sre", "_cold", "_tuplegetter",
+    "_outside", "_record", "_written_out", "_member_names")
 
 
 class Files(unittest.TestCase):
@@ -44,6 +52,15 @@ class Files(unittest.TestCase):
             self.assertLessEqual(len(text.split("\n")), 400, path)
             for line in text.split("\n"):
                 self.assertLessEqual(len(line), 120, (path, line))
+
+    def test_words_that_stand_nowhere(self):
+        for path in FILES:
+            text = path.read_text(encoding="ascii")
+            for word in BARRED_PARTS:
+                self.assertNotIn(word, text, path)
+            self.assertFalse(BARRED & set(re.findall(r"\w+", text)), path)
+            for name in re.findall(r"\b_\w+", text):
+                self.assertFalse(name.startswith(BARRED_STARTS), (path, name))
 
 
 class Code(unittest.TestCase):
@@ -121,6 +138,13 @@ class Code(unittest.TestCase):
                 told = node.args[0]
                 self.assertIsInstance(told, ast.ListComp, (path, node.lineno))
                 self.assertIn(told.elt.func.id, {"str", "int", "len", "ord", "repr"}, (path, node.lineno))
+
+    def test_the_least_and_the_most_are_of_plain_numbers(self):
+        for path, node in self.nodes(ast.Call):
+            if isinstance(node.func, ast.Name) and node.func.id in ["min", "max"]:
+                told = node.args[0]
+                self.assertIsInstance(told, ast.ListComp, (path, node.lineno))
+                self.assertIn(told.elt.func.id, {"int", "len", "ord"}, (path, node.lineno))
 
     def test_any_all_and_the_like_take_no_generator(self):
         for path, node in self.nodes(ast.GeneratorExp):

@@ -317,6 +317,18 @@ class Needed(Checks):
         self.assertEqual(len(told), 2)
         self.assertEqual({vote[1:] for vote in told}, {("a", "b"), ("b", "d")})
 
+    def test_a_link_that_skips_the_child_makes_nothing_final(self):
+        parents = {"root": "", "a": "root", "b": "a", "c": "b"}
+        votes = [(voter, *link) for voter in THREE for link in [("root", "a"), ("a", "c")]]
+        ballot, view = ballot_of(parents, votes), ballot_of({"root": ""}, [])
+        self.assertEqual(final(ballot), ["root"])
+        for block in "abc":
+            self.assertIsNone(needed(view, ballot, block))
+        # The votes for the child count, however many they are.
+        more = ballot_of(parents, votes + [("ann", "a", "b"), ("bob", "a", "b"), ("cy", "a", "b")])
+        view = ballot_of(parents, [*votes, ("cy", "a", "b")][3:])
+        self.assertEqual({vote[1:] for vote in needed(view, more, "a")} - {("root", "a")}, {("a", "b")})
+
     def test_lists_are_new_on_each_call(self):
         view, ballot = ballot_of({"root": ""}, []), ballot_of()
         for call in [lambda: needed(view, ballot, "a"), lambda: needed(view, ballot, "root"),
